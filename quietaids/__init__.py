@@ -1,0 +1,1 @@
+"""Quiet aids: tells exactly whether a hearing aid whistles, and how loud its echo is."""

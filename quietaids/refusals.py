@@ -1,0 +1,17 @@
+"""The refusals of a call, one error class for each."""
+
+
+class OutOfRange(Exception):
+    pass
+
+
+class NoBand(Exception):
+    pass
+
+
+class NoRing(Exception):
+    pass
+
+
+class NotQuiet(Exception):
+    pass
