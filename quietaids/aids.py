@@ -3,7 +3,7 @@
 from quietaids.calls import make_next_call
 from quietaids.hearing import Aid
 from quietaids.reading import Reader
-from quietaids.refusals import NoBand, NoRing, NotQuiet, OutOfRange
+from quietaids.refusals import NoBand, NoRing, NotQuiet, OutOfRange, WrongSize
 
 
 def answer_next(aid, reader):
@@ -15,6 +15,8 @@ def answer_next(aid, reader):
         return [-3]
     except NoRing:
         return [-5]
+    except WrongSize:
+        return [-6]
     except NotQuiet:
         return [-8]
 

@@ -23,6 +23,20 @@ def answers_to(upper, lower, inputs):
     return ratios
 
 
+# A click's first inputs.
+def click_inputs(how_many):
+    return [1 if t == 0 else 0 for t in range(how_many)]
+
+
+# What was answered before works on as inputs would: the filter with this upper row answers a click with just
+# what follows. The beginning, its latest answer first, has as many as the lower row has numbers behind its first.
+def upper_behind(beginning, lower):
+    upper = []
+    for t in range(len(beginning)):
+        upper.append(-sum([number * answer for number, answer in zip(lower[t + 1:], beginning)]))
+    return upper
+
+
 # The two rows are of one length; what's given back is one number shorter.
 def less_turned_end(row, beside):
     n = len(row) - 1

@@ -1,6 +1,6 @@
 """What a call's numbers and lists must be within, or else the call is refused."""
 
-from quietaids.refusals import OutOfRange
+from quietaids.refusals import OutOfRange, WrongSize
 
 LAST_BAND = 2
 GAIN_MOST = 1000
@@ -10,6 +10,15 @@ LOWER_LONGEST = 3
 PROOF_LONGEST = 200
 INPUTS_LONGEST = 16
 INPUT_MOST = 1000
+ANSWERS_LONGEST = 16
+BEGINNING_LONGEST = 12
+BEGINNING_MOST = 1000
+PARTS_MOST = 100
+VOLUMES_MOST = 60
+ROW_LONGEST = 12
+ROW_MOST = 1000000
+LATER_MOST = 3
+VOLUME_MOST = 1000
 
 
 def want_between(number, least, most):
@@ -46,3 +55,41 @@ def want_proof(numbers):
 
 def want_inputs(inputs):
     want_list(inputs, 0, INPUTS_LONGEST, INPUT_MOST)
+
+
+def want_freed(n, beginning):
+    want_between(n, 0, ANSWERS_LONGEST)
+    want_list(beginning, 0, BEGINNING_LONGEST, BEGINNING_MOST)
+
+
+# As many as the plain row has numbers behind its first.
+def want_as_many(beginning, row):
+    if len(beginning) != len(row) - 1:
+        raise WrongSize()
+
+
+def want_volumes(d, m):
+    want_between(d, 1, PARTS_MOST)
+    want_between(m, 0, VOLUMES_MOST)
+
+
+def want_row(numbers):
+    want_list(numbers, 1, ROW_LONGEST, ROW_MOST)
+
+
+def want_later(k):
+    want_between(k, 0, LATER_MOST)
+
+
+def want_room(up):
+    if len(up) > UPPER_LONGEST:
+        raise WrongSize()
+
+
+def want_click(n):
+    want_between(n, 1, ANSWERS_LONGEST)
+
+
+def want_volume(n, d):
+    want_between(n, 0, VOLUME_MOST)
+    want_between(d, 1, VOLUME_MOST)

@@ -13,5 +13,9 @@ class NoRing(Exception):
     pass
 
 
+class WrongSize(Exception):
+    pass
+
+
 class NotQuiet(Exception):
     pass

@@ -62,3 +62,12 @@ def plain(row):
     if kept[0] < 0:
         return scaled(kept, -1)
     return kept
+
+
+# One row behind another, as an answer tells them: each behind how many numbers it has.
+def counted(rows):
+    numbers = []
+    for row in rows:
+        numbers.append(len(row))
+        numbers.extend(row)
+    return numbers

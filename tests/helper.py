@@ -10,6 +10,9 @@ RING = [4]
 QUIET = [5]
 STEPS = [6]
 LOUD = [8]
+ALONE = [12]
+ENDS = [14]
+TOLD = [17]
 
 
 def listed(numbers):
@@ -38,6 +41,34 @@ def check(numbers):
 
 def play(inputs):
     return [9] + listed(inputs)
+
+
+def freed(n, beginning):
+    return [10, n] + listed(beginning)
+
+
+def volume(d, m):
+    return [11, d, m]
+
+
+def row_call(numbers):
+    return [13] + listed(numbers)
+
+
+def later(i, k):
+    return [15, i, k]
+
+
+def turn(i):
+    return [16, i]
+
+
+def click(n):
+    return [18, n]
+
+
+def quiet_at(n, d):
+    return [19, n, d]
 
 
 # For each call its answer, as a list.
@@ -129,6 +160,19 @@ class Model:
 
     def heard_rows(self):
         return interpolated(self.upper_value, 11), interpolated(self.ring_value, 11)
+
+    # The same aid with all its gains times the volume.
+    def at_volume(self, v):
+        other = Model()
+        other.leak = self.leak
+        for i, (n, d, up, low) in self.bands.items():
+            g = Fraction(n, d) * v
+            other.bands[i] = (g.numerator, g.denominator, up, low)
+        return other
+
+    def is_quiet_at(self, v):
+        there = self.at_volume(v)
+        return there.ring_value(0) != 0 and quiet_by_matrix(there.ring_row())
 
     def together_value(self, z):
         gains = [(Fraction(n, d), up, low) for n, d, up, low in self.bands.values()]
@@ -240,6 +284,22 @@ def solved(matrix):
             if i != k:
                 matrix[i] = [a - matrix[i][k] * b for a, b in zip(matrix[i], matrix[k])]
     return [line[-1] for line in matrix]
+
+
+# One answer behind another, from those before it; the beginning is y(-1), y(-2), ..
+def let_go(row, beginning, how_many):
+    heard = [Fraction(y) for y in reversed(beginning)]
+    for t in range(how_many):
+        heard.append(-sum((row[i] * heard[-i] for i in range(1, len(row))), Fraction(0)) / row[0])
+    return heard[len(beginning):]
+
+
+# By equations again, with the upper row taken from what follows, not from what was told.
+def squares_let_go(row, beginning):
+    n = len(row) - 1
+    following = let_go(row, beginning, n)
+    upper = [sum((row[i] * following[t - i] for i in range(t + 1)), Fraction(0)) for t in range(n)]
+    return loud_by_equations(upper + [0], row)
 
 
 # The told steps by fractions and one name for each number, not made whole on the way.

@@ -228,6 +228,16 @@ class Forms(unittest.TestCase):
             if isinstance(node.func, ast.Name) and node.func.id in WALKED_AT_ONCE:
                 self.assertIn((path, node.lineno, node.col_offset), allowed)
 
+    def test_tuples_of_a_files_top_are_read_by_an_index_alone(self):
+        for path, tree in trees().items():
+            kept = [t.id for node in tree.body if isinstance(node, ast.Assign) and isinstance(node.value, ast.Tuple)
+                    for t in node.targets]
+            indexed = {id(node.value) for node in ast.walk(tree)
+                       if isinstance(node, ast.Subscript) and isinstance(node.ctx, ast.Load)}
+            for node in ast.walk(tree):
+                if isinstance(node, ast.Name) and node.id in kept and isinstance(node.ctx, ast.Load):
+                    self.assertIn(id(node), indexed, (path, node.id))
+
     def test_calls_without_stars_and_texts_without_a_percent_sign(self):
         for path, node in nodes((ast.Call, ast.Constant)):
             if isinstance(node, ast.Call):
